@@ -1,0 +1,1 @@
+"""Putbetween: names that tell who stands ahead."""

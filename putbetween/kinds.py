@@ -1,0 +1,25 @@
+"""What kind of thing a caller has passed: each question may be asked of any object."""
+
+
+def is_integer(thing):
+    """Whether a thing is an integer; True and False are none."""
+    return isinstance(thing, int) and not isinstance(thing, bool)
+
+
+def is_number(least, most, thing):
+    """Whether a thing is an integer from the least to the most."""
+    return is_integer(thing) and least <= thing <= most
+
+
+def is_list_or_tuple(thing):
+    """Whether a thing is a list or a tuple."""
+    return isinstance(thing, (list, tuple))
+
+
+def is_order(many, thing):
+    """Whether a thing is a tuple of all integers from 0 on below so many, each once."""
+    if not isinstance(thing, tuple) or len(thing) != many:
+        return False
+    if not all([is_number(0, many - 1, part) for part in thing]):
+        return False
+    return len(set(thing)) == many

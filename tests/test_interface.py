@@ -1,0 +1,78 @@
+"""The interface of DOC.md: each name, where it is defined, and how it is called."""
+
+import importlib
+import unittest
+
+from putbetween import errors
+from tests import wrong
+
+FUNCTIONS = {
+    "plans": {
+        "is_plan": 1, "plan_of": 1, "behind": 2, "beside": 2, "repeated": 2, "turned": 1,
+        "part": 2, "with_sight": 3, "all_plans": 1,
+    },
+    "likeness": {"sameness": 2, "is_sameness": 3},
+    "chains": {
+        "is_chain": 2, "chains": 1, "weighed": 2, "ending": 1, "beginning": 1, "by_length": 1,
+        "through": 2, "between": 3,
+    },
+}
+
+FIELDS = {
+    "NoPlan": (), "NoSights": (), "NoNumber": (), "NoItems": (), "NoItem": (), "TooLarge": ("most",),
+    "NoDay": ("index",), "NoChain": (), "TooMany": ("most",), "NoRun": (), "NoOrder": (), "NoWord": (),
+    "NoHeap": (), "OtherSize": (), "NoBook": (), "NoRow": (), "NoHands": (), "NoRooms": (), "NoName": (),
+    "NoKinds": (), "NoGrowth": (), "NoKind": (), "NoHand": (), "NothingDone": (), "BadText": ("line",),
+    "BadShape": ("at",), "NoLine": (), "NotKept": ("name",),
+}
+
+
+class Functions(unittest.TestCase):
+    def test_each_is_defined_where_it_is_listed(self):
+        for module, names in FUNCTIONS.items():
+            found = importlib.import_module("putbetween." + module)
+            for name, arguments in names.items():
+                function = getattr(found, name)
+                self.assertEqual(function.__module__, "putbetween." + module, name)
+                self.assertEqual(function.__code__.co_argcount, arguments, name)
+                self.assertIsNone(function.__defaults__, name)
+
+
+class Errors(unittest.TestCase):
+    def test_base(self):
+        self.assertEqual(errors.BetweenError.__bases__, (ValueError,))
+        self.assertEqual(vars(errors.BetweenError()), {})
+
+    def test_each_derives_directly_and_keeps_its_fields(self):
+        for name, fields in FIELDS.items():
+            error = getattr(errors, name)
+            self.assertEqual(error.__module__, "putbetween.errors", name)
+            self.assertEqual(error.__bases__, (errors.BetweenError,), name)
+            values = list(range(5, 5 + len(fields)))
+            self.assertEqual(vars(error(*values)), dict(zip(fields, values)), name)
+
+    def test_no_others(self):
+        classes = {name for name, thing in vars(errors).items() if isinstance(thing, type)}
+        self.assertEqual(classes, set(FIELDS) | {"BetweenError"})
+
+    def test_fields_keep_whatever_is_passed(self):
+        for name, fields in FIELDS.items():
+            for thing in wrong.things() if fields else []:
+                error = getattr(errors, name)(thing)
+                self.assertIs(getattr(error, fields[0]), thing, name)
+
+    def test_made_with_just_the_fields(self):
+        for name, fields in FIELDS.items():
+            error = getattr(errors, name)
+            self.assertRaises(TypeError, error, *[0] * (len(fields) + 1))
+            if fields:
+                self.assertRaises(TypeError, error)
+
+    def test_each_can_be_raised_and_caught_as_the_base(self):
+        for name, fields in FIELDS.items():
+            with self.assertRaises(errors.BetweenError):
+                raise getattr(errors, name)(*fields)
+
+
+if __name__ == "__main__":
+    unittest.main()
