@@ -87,7 +87,7 @@ class NoHands(BetweenError):
 
 
 class NoRooms(BetweenError):
-    """A thing is no tuple of how many rooms the items open."""
+    """A thing is no tuple of how many rooms each item has."""
 
 
 class NoName(BetweenError):
