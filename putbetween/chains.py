@@ -1,6 +1,6 @@
 """Chains: rows of items each of which has seen those ahead of it, and their numbers."""
 
-from putbetween.errors import NoNumber
+from putbetween.errors import NoChain, NoNumber
 from putbetween.kinds import is_number
 from putbetween.plans import is_item, need_item, need_plan, turned
 
@@ -10,12 +10,23 @@ MOST_WEIGHT = 1000
 def is_chain(plan, thing):
     """Whether a thing is a chain of a plan."""
     need_plan(plan)
+    return makes_chain(plan, thing)
+
+
+def makes_chain(plan, thing):
+    """Whether a thing is a chain of what is known to be a plan."""
     if not isinstance(thing, tuple) or len(thing) == 0:
         return False
     if not all([is_item(plan, item) for item in thing]):
         return False
     # An item has seen all that its neighbour in the chain has seen.
     return all([elder in plan[item] for elder, item in zip(thing, thing[1:])])
+
+
+def need_chain(plan, chain):
+    """Raise NoChain for what is no chain of a plan."""
+    if not makes_chain(plan, chain):
+        raise NoChain()
 
 
 def chains(plan):

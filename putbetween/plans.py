@@ -147,6 +147,11 @@ def with_sight(plan, item, seen):
     need_item(plan, item)
     if not is_number(0, item - 1, seen):
         raise NoItem()
+    return sighted(plan, item, seen)
+
+
+def sighted(plan, item, seen):
+    """What with_sight makes of what is known to be a plan and two of its items."""
     rows = list(plan)
     rows[item] = plan[item] + (seen,)
     return closed(rows)

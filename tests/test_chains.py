@@ -14,7 +14,7 @@ APART = ((),) * 40
 
 # Few enough items to list all chains.
 SMALL = [plan for many in range(5) for plan in all_plans(many)] + plainly.drawn_plans(21, 40, 10)
-LARGE = plainly.drawn_plans(22, 40, 40) + [LINE, APART]
+LARGE = plainly.drawn_plans(22, 15, 40) + [LINE, APART]
 
 
 class IsChain(unittest.TestCase):

@@ -3,9 +3,13 @@
 import unittest
 
 from putbetween.chains import beginning, between, by_length, chains, ending, is_chain, through, weighed
+from putbetween.days import sight_costs
 from putbetween.errors import NoItem, NoItems, NoNumber, NoPlan, NoSights, TooLarge
 from putbetween.likeness import is_sameness, sameness
+from putbetween.naming import names, run_with, standing, view
 from putbetween.plans import all_plans, behind, beside, part, plan_of, repeated, turned, with_sight
+from putbetween.ranks import ahead, all_chains, chain_at, longest, rank
+from putbetween.runs import many_runs, number_of, run_at, run_of
 from tests import plainly
 from tests.wrong import assert_error, things, with_things
 
@@ -30,6 +34,20 @@ WITH_PLANS = [
     (weighed, (THREE, 2), 1),
     (through, (THREE, 1), 1),
     (between, (THREE, 0, 2), 1),
+    (sight_costs, (THREE,), 1),
+    (ahead, (THREE, (0,), (0, 1)), 1),
+    (rank, (THREE, (0, 2)), 1),
+    (chain_at, (THREE, 0), 1),
+    (all_chains, (THREE,), 1),
+    (longest, (THREE,), 1),
+    (many_runs, (THREE,), 1),
+    (run_at, (THREE, 0), 1),
+    (number_of, (THREE, (0, 0, 0)), 1),
+    (run_of, (THREE, (0, 1, 2)), 1),
+    (names, (THREE, (0, 0, 0)), 1),
+    (standing, (THREE, (0, 0, 0)), 1),
+    (view, (THREE, (0, 0, 0), 1), 1),
+    (run_with, (THREE, ((0,),)), 1),
 ]
 
 

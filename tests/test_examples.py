@@ -3,7 +3,10 @@
 import unittest
 
 from putbetween.chains import chains, ending, weighed
+from putbetween.days import meet_costs
+from putbetween.naming import names, standing
 from putbetween.plans import plan_of
+from putbetween.ranks import chain_at, rank
 
 THREE = ((), (0,), (0, 1))
 
@@ -13,8 +16,19 @@ class Examples(unittest.TestCase):
         self.assertEqual(chains(THREE), 7)
         self.assertEqual(ending(THREE), (1, 2, 4))
 
+    def test_e02(self):
+        self.assertEqual(rank(THREE, (0, 2)), 4)
+        self.assertEqual(chain_at(THREE, 0), (2,))
+
+    def test_e03(self):
+        self.assertEqual(names(THREE, (0, 0, 1)), ((0,), (1,), (1, 2)))
+        self.assertEqual(standing(THREE, (0, 0, 1)), (1, 2, 0))
+
     def test_e05(self):
         self.assertEqual(plan_of([[], [0], [1]]), THREE)
+
+    def test_e06(self):
+        self.assertEqual(meet_costs([("put", 0), ("put", 1), ("meet", 0, 1), ("put", 0)]), (1,))
 
     def test_e10(self):
         self.assertEqual(weighed(THREE, 2), 13)

@@ -16,6 +16,10 @@ FUNCTIONS = {
         "is_chain": 2, "chains": 1, "weighed": 2, "ending": 1, "beginning": 1, "by_length": 1,
         "through": 2, "between": 3,
     },
+    "days": {"day_plan": 1, "rounds": 2, "day_hands": 1, "meet_costs": 1, "sight_costs": 1, "left_out": 2},
+    "ranks": {"ahead": 3, "rank": 2, "chain_at": 2, "all_chains": 1, "longest": 1},
+    "runs": {"many_runs": 1, "number_of": 2, "run_at": 2, "run_of": 2},
+    "naming": {"names": 2, "standing": 2, "view": 3, "run_with": 2},
 }
 
 FIELDS = {
