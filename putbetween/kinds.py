@@ -23,3 +23,8 @@ def is_order(many, thing):
     if not all([is_number(0, many - 1, part) for part in thing]):
         return False
     return len(set(thing)) == many
+
+
+def is_name(thing):
+    """Whether a thing can be a name: an integer or a string."""
+    return is_integer(thing) or isinstance(thing, str)

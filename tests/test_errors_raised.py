@@ -5,11 +5,14 @@ import unittest
 from putbetween.chains import beginning, between, by_length, chains, ending, is_chain, through, weighed
 from putbetween.days import sight_costs
 from putbetween.errors import NoItem, NoItems, NoNumber, NoPlan, NoSights, TooLarge
+from putbetween.foes import foe, is_foe
 from putbetween.likeness import is_sameness, sameness
 from putbetween.naming import names, run_with, standing, view
 from putbetween.plans import all_plans, behind, beside, part, plan_of, repeated, turned, with_sight
+from putbetween.playing import faulty, plain_namer, plain_table, played, rank_namer
 from putbetween.ranks import ahead, all_chains, chain_at, longest, rank
 from putbetween.runs import many_runs, number_of, run_at, run_of
+from putbetween.words import chain_of, word, words
 from tests import plainly
 from tests.wrong import assert_error, things, with_things
 
@@ -48,6 +51,15 @@ WITH_PLANS = [
     (standing, (THREE, (0, 0, 0)), 1),
     (view, (THREE, (0, 0, 0), 1), 1),
     (run_with, (THREE, ((0,),)), 1),
+    (word, (THREE, (0,)), 1),
+    (chain_of, (THREE, "z"), 1),
+    (words, (THREE, (0, 0, 0)), 1),
+    (played, (THREE, (0, 0, 0), plain_namer, plain_table), 1),
+    (faulty, (THREE, plain_namer, plain_table), 1),
+    (plain_namer, (THREE, 0, (), 0), 1),
+    (rank_namer, (THREE, 0, (), 0), 1),
+    (foe, (THREE, plain_namer, plain_table), 1),
+    (is_foe, (THREE, plain_namer, plain_table, None), 1),
 ]
 
 

@@ -4,9 +4,12 @@ import unittest
 
 from putbetween.chains import chains, ending, weighed
 from putbetween.days import meet_costs
+from putbetween.heaps import least_plan
 from putbetween.naming import names, standing
 from putbetween.plans import plan_of
+from putbetween.playing import plain_namer, plain_table, played
 from putbetween.ranks import chain_at, rank
+from putbetween.words import words
 
 THREE = ((), (0,), (0, 1))
 
@@ -24,14 +27,24 @@ class Examples(unittest.TestCase):
         self.assertEqual(names(THREE, (0, 0, 1)), ((0,), (1,), (1, 2)))
         self.assertEqual(standing(THREE, (0, 0, 1)), (1, 2, 0))
 
+    def test_e04(self):
+        self.assertEqual(words(THREE, (0, 0, 1)), ("z", "y", "yx"))
+
     def test_e05(self):
         self.assertEqual(plan_of([[], [0], [1]]), THREE)
 
     def test_e06(self):
         self.assertEqual(meet_costs([("put", 0), ("put", 1), ("meet", 0, 1), ("put", 0)]), (1,))
 
+    def test_e07(self):
+        told = played(THREE, (0, 0, 1), plain_namer, plain_table)
+        self.assertEqual(told, ("done", ("z", "y", "yx"), (1, 2, 0)))
+
     def test_e10(self):
         self.assertEqual(weighed(THREE, 2), 13)
+
+    def test_e13(self):
+        self.assertEqual(least_plan(["z", "zy", "x"]), ((), (0,), ()))
 
 
 if __name__ == "__main__":

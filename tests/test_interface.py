@@ -20,6 +20,12 @@ FUNCTIONS = {
     "ranks": {"ahead": 3, "rank": 2, "chain_at": 2, "all_chains": 1, "longest": 1},
     "runs": {"many_runs": 1, "number_of": 2, "run_at": 2, "run_of": 2},
     "naming": {"names": 2, "standing": 2, "view": 3, "run_with": 2},
+    "words": {"word": 2, "chain_of": 2, "words": 2},
+    "heaps": {"least_plan": 1, "heap_run": 2, "lacking": 1},
+    "playing": {
+        "played": 4, "faulty": 3, "plain_namer": 4, "rank_namer": 4, "plain_table": 2, "rank_table": 2,
+    },
+    "foes": {"foe": 3, "is_foe": 4},
 }
 
 FIELDS = {
