@@ -87,7 +87,7 @@ class NoHands(BetweenError):
 
 
 class NoRooms(BetweenError):
-    """A thing is no tuple of how many rooms each item has."""
+    """A thing is no number of rooms that an item can open."""
 
 
 class NoName(BetweenError):

@@ -1,19 +1,14 @@
 """The foe: against who uses fewer names than a plan has chains it finds a run with a fault."""
 
 from putbetween.chains import chains
-from putbetween.errors import TooMany
-from putbetween.plans import need_plan
 from putbetween.playing import play, put_in
 from putbetween.runs import is_run
-from putbetween.strangers import is_answer, remembering
-
-MOST_CHAINS = 600
+from putbetween.strangers import is_answer, need_few_names, remembering
 
 
 def foe(plan, namer, table):
     """A run with its fault, or as many runs and items, with names all unlike, as there are chains."""
-    if chains(plan) > MOST_CHAINS:
-        raise TooMany(MOST_CHAINS)
+    need_few_names(chains(plan))
     asked = remembering(namer)
     row = []
     for item in range(len(plan)):
@@ -26,16 +21,7 @@ def foe(plan, namer, table):
 
 def is_foe(plan, namer, table, thing):
     """Whether a thing is what the foe may tell."""
-    need_plan(plan)
-    asked = remembering(namer)
-
-    def is_one(run):
-        return is_run(plan, run)
-
-    def play_on(run):
-        return play(plan, run, asked, table)
-
-    return is_answer(thing, chains(plan), len(plan), is_one, play_on)
+    return is_answer(plan, namer, table, thing, chains(plan), is_run, play)
 
 
 # The row has the pairs (item, name) of all names that can come, as DOC.md tells in 7.2. A cut of it

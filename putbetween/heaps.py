@@ -69,8 +69,8 @@ def is_falling(thing):
 
 
 def beginnings(word):
-    """All beginnings of a word of one letter or more, the word itself among them."""
-    return [word[:many] for many in range(1, len(word) + 1)]
+    """All beginnings of a word of one letter or more, but for the word itself."""
+    return [word[:many] for many in range(1, len(word))]
 
 
 def chains_of(heap):

@@ -1,15 +1,11 @@
 """Playing: the items of a run are put in one by one, named and ordered by strangers."""
 
 from putbetween.chains import beginning
-from putbetween.errors import TooMany
-from putbetween.kinds import is_name
 from putbetween.naming import seen_of
 from putbetween.plans import need_plan
 from putbetween.runs import many_runs, need_run
-from putbetween.strangers import first_faulty
+from putbetween.strangers import first_faulty, name_fault, need_few_runs
 from putbetween.words import LETTERS, need_letters
-
-MOST_RUNS = 5000
 
 # The names of no items, and these as they stand.
 NOTHING = ((), ())
@@ -34,8 +30,7 @@ def play(plan, run, namer, table):
 
 def faulty(plan, namer, table):
     """The pair of the first run with a fault and this fault, or None."""
-    if many_runs(plan) > MOST_RUNS:
-        raise TooMany(MOST_RUNS)
+    need_few_runs(many_runs(plan))
 
     def choices(run):
         return list(range(len(plan[len(run)]) + 1))
@@ -65,16 +60,6 @@ def put_in(plan, gap, state, namer, table):
         return fault, state
     place = told.count(True)
     return None, (names + (name,), order[:place] + (item,) + order[place:])
-
-
-def name_fault(names, name):
-    """The fault that the name of the next item is none, or that of an earlier one; or None."""
-    item = len(names)
-    if not is_name(name):
-        return ("name", item)
-    if name in names:
-        return ("same", names.index(name), item)
-    return None
 
 
 def is_ahead(table, one, other):

@@ -1,6 +1,33 @@
 """Strangers: what is the same for all documents when their ways of naming are tried and judged."""
 
-from putbetween.kinds import is_number
+from putbetween.errors import TooMany
+from putbetween.kinds import is_name
+from putbetween.plans import is_item
+
+MOST_RUNS = 5000
+MOST_NAMES = 600
+
+
+def need_few_runs(many):
+    """Raise TooMany for more runs than are gone through."""
+    if many > MOST_RUNS:
+        raise TooMany(MOST_RUNS)
+
+
+def need_few_names(many):
+    """Raise TooMany for more names than a foe asks for."""
+    if many > MOST_NAMES:
+        raise TooMany(MOST_NAMES)
+
+
+def name_fault(names, name):
+    """The fault that the name of the next item is none, or that of an earlier one; or None."""
+    item = len(names)
+    if not is_name(name):
+        return ("name", item)
+    if name in names:
+        return ("same", names.index(name), item)
+    return None
 
 
 def remembering(namer):
@@ -42,44 +69,50 @@ def first_run(many, choices, run):
     return run
 
 
-def is_answer(thing, needed, many, is_run, play):
-    """Whether a thing is what a foe may tell who needs so many names in a plan of so many items."""
-    if not isinstance(thing, tuple) or len(thing) == 0 or not isinstance(thing[0], str):
+def is_answer(plan, namer, table, thing, needed, is_run, play):
+    """Whether a thing is what a foe that needs so many names may tell of a plan, a namer and a table.
+
+    `is_run` judges what is a run of the plan, `play` tells what is played on one.
+    """
+    asked = remembering(namer)
+
+    def tell(run):
+        return play(plan, run, asked, table)
+
+    if not isinstance(thing, tuple):
         return False
-    if thing[0] == "fault" and len(thing) == 3:
-        return is_run(thing[1]) and is_fault(thing[2], play(thing[1]))
-    if thing[0] == "names" and len(thing) == 2:
-        return are_rows(thing[1], needed, many, is_run) and are_unlike(thing[1], play)
+    if len(thing) == 3 and thing[0] == "fault":
+        return is_run(plan, thing[1]) and is_fault(thing[2], tell(thing[1]))
+    if len(thing) == 2 and thing[0] == "names":
+        return are_rows(plan, thing[1], needed, is_run) and are_unlike(thing[1], tell)
     return False
 
 
 def is_fault(thing, told):
     """Whether a thing is the fault that is told of a run on which there is one."""
-    if told[0] == "done" or not isinstance(thing, tuple):
-        return False
     # A flag would be equal to the number of an item.
-    return thing == told and not any([isinstance(part, bool) for part in thing])
+    return told[0] != "done" and thing == told and not any([isinstance(part, bool) for part in thing])
 
 
-def are_rows(thing, needed, many, is_run):
-    """Whether a thing is a list of so many pairs of a run and an item."""
+def are_rows(plan, thing, needed, is_run):
+    """Whether a thing is a list of so many pairs of a run and an item of a plan."""
     if not isinstance(thing, list) or len(thing) != needed:
         return False
     for row in thing:
         if not isinstance(row, tuple) or len(row) != 2:
             return False
-        if not is_run(row[0]) or not is_number(0, many - 1, row[1]):
+        if not is_run(plan, row[0]) or not is_item(plan, row[1]):
             return False
     return True
 
 
-def are_unlike(rows, play):
+def are_unlike(rows, tell):
     """Whether there is no fault on the runs of these rows, and the names of their items there are all unlike."""
     known = {}
     found = []
     for run, item in rows:
         if run not in known:
-            known[run] = play(run)
+            known[run] = tell(run)
         told = known[run]
         if told[0] != "done":
             return False

@@ -4,7 +4,6 @@ from putbetween.chains import makes_chain, need_chain
 from putbetween.errors import NoWord, TooLarge
 from putbetween.naming import names
 from putbetween.plans import need_plan
-from putbetween.runs import need_run
 
 # The letter of an item stands at its number: a greater item is ahead, so it has a lesser letter.
 LETTERS = "zyxwvutsrqponmlkjihgfedcba"
@@ -29,7 +28,6 @@ def chain_of(plan, text):
 def words(plan, run):
     """The words of the plain names of a run."""
     need_letters(plan)
-    need_run(plan, run)
     return tuple([spelled(chain) for chain in names(plan, run)])
 
 

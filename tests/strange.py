@@ -235,3 +235,94 @@ def merging(draw, plan):
         return None
     one, other = draw.sample(texts, 2)
     return chain_namer(numbers, {one: other}), chain_table
+
+
+def descends(run, one, other):
+    """Whether the one item descends from the other one."""
+    return run[one] is not None and (run[one] == other or descends(run, run[one], other))
+
+
+def descent_played(plan, run, namer, table):
+    """11.2: the items are put in one by one; each two names are looked at both ways about."""
+    names = []
+    for x, elder in enumerate(run):
+        names.append(namer(plan, x, tuple((u, run[u], names[u]) for u in plan[x]), elder))
+        if not is_name(names[x]):
+            return ("name", x)
+        for y in range(x):
+            if names[y] == names[x]:
+                return ("same", y, x)
+        for y in range(x):
+            for one, other in ((x, y), (y, x)):
+                if not same(table(names[one], names[other]), descends(run, one, other)):
+                    return ("wrong", y, x)
+    return ("done", tuple(names))
+
+
+def all_descents(plan):
+    """All descent runs, ascending, None ahead of all items."""
+    return list(itertools.product(*[(None,) + row for row in plan]))
+
+
+def is_descents(plan, thing):
+    if type(thing) is not tuple or len(thing) != len(plan):
+        return False
+    return all(elder is None or type(elder) is int and elder in row for elder, row in zip(thing, plan))
+
+
+def descent_namer(numbers):
+    """Names that are right: texts of chains in other numbers."""
+    def namer(plan, item, view, elder):
+        told = [name for other, _, name in view if other == elder]
+        return ".".join(told + [str(numbers[item])])
+    return namer
+
+
+def descent_table(one, other):
+    return read(one)[:len(read(other))] == read(other) and one != other
+
+
+def descent_strangers(draw, plan):
+    """Pairs of a namer and a table for the descents of a plan: right ones, and ones with faults of each kind."""
+    seed = draw.randrange(10 ** 6)
+    numbers = draw.sample(range(100), len(plan))
+    right = descent_namer(numbers)
+    one, other = draw.sample(range(100, 200), 2)
+    return [
+        (right, descent_table),
+        (whole_name, whole_table),
+        (whole_name, now_and_then(seed, 8, whole_table, True)),
+        (namer_with(seed, 6, whole_name, "0;0:-"), whole_table),
+        (namer_with(seed, 9, right, str(one)), descent_table),
+        (namer_with(seed, 9, right, f"{one}.{other}"), descent_table),
+        (right, lambda one, other: descent_table(other, one)),
+        (right, lambda one, other: False),
+        (right, lambda one, other: True),
+        (right, lambda one, other: int(descent_table(one, other))),
+        (right, lambda one, other: descent_table(one, other) or None),
+        (right, now_and_then(seed, 5, descent_table, draw.choice(NO_FLAGS))),
+        (right, now_and_then(seed, 20, descent_table, False)),
+        (namer_with(seed, 4, right, draw.choice(NO_NAMES)), descent_table),
+        (lambda plan, item, view, elder: item, lambda one, other: False),
+        (lambda plan, item, view, elder: item, lambda one, other: one > other),
+        (lambda plan, item, view, elder: -1 if elder is None else elder, lambda one, other: False),
+        (lambda plan, item, view, elder: item if elder is None else str(item), lambda one, other: type(one) is str),
+        (few_namer(seed, 3), lambda one, other: False),
+        (few_namer(seed, 60), lambda one, other: draw_flag(seed, one, other)),
+        (few_namer(seed, 10 ** 9), lambda one, other: draw_flag(seed, one, other)),
+    ]
+
+
+def whole_name(plan, item, view, elder):
+    """A name that tells all that there is to tell: the item, and the elders of all that it has seen and its own."""
+    elders = [(u, above) for u, above, _ in view] + [(item, elder)]
+    return f"{item};" + ",".join(f"{u}:{'-' if above is None else above}" for u, above in elders)
+
+
+def whole_table(one, other):
+    """Whether the one item descends from the other one, followed up along the elders."""
+    item, told = one.split(";")
+    elders = dict(pair.split(":") for pair in told.split(","))
+    while elders.get(item, "-") not in ("-", other.split(";")[0]):
+        item = elders[item]
+    return elders.get(item, "-") != "-"

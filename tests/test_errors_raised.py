@@ -2,8 +2,11 @@
 
 import unittest
 
+from putbetween.books import book_fault, is_right_book, plain_book
 from putbetween.chains import beginning, between, by_length, chains, ending, is_chain, through, weighed
 from putbetween.days import sight_costs
+from putbetween.descents import (
+    descent_faulty, descent_foe, descent_names, descent_played, is_descent_foe, many_descents)
 from putbetween.errors import NoItem, NoItems, NoNumber, NoPlan, NoSights, TooLarge
 from putbetween.foes import foe, is_foe
 from putbetween.likeness import is_sameness, sameness
@@ -11,7 +14,9 @@ from putbetween.naming import names, run_with, standing, view
 from putbetween.plans import all_plans, behind, beside, part, plan_of, repeated, turned, with_sight
 from putbetween.playing import faulty, plain_namer, plain_table, played, rank_namer
 from putbetween.ranks import ahead, all_chains, chain_at, longest, rank
+from putbetween.rooms import document, many_room_runs, room_names
 from putbetween.runs import many_runs, number_of, run_at, run_of
+from putbetween.stocks import fewest_hands, is_fewest, stocks
 from putbetween.words import chain_of, word, words
 from tests import plainly
 from tests.wrong import assert_error, things, with_things
@@ -60,6 +65,21 @@ WITH_PLANS = [
     (rank_namer, (THREE, 0, (), 0), 1),
     (foe, (THREE, plain_namer, plain_table), 1),
     (is_foe, (THREE, plain_namer, plain_table, None), 1),
+    (book_fault, (THREE, {}, ()), 1),
+    (is_right_book, (THREE, {}, ()), 1),
+    (plain_book, (THREE,), 1),
+    (stocks, (THREE, (0, 0, 0)), 1),
+    (fewest_hands, (THREE,), 1),
+    (is_fewest, (THREE, ((0, 0, 0), (0,))), 1),
+    (many_room_runs, (THREE, 1), 1),
+    (document, (THREE, 1, (None, None, None)), 1),
+    (room_names, (THREE, 1, (None, None, None)), 1),
+    (many_descents, (THREE,), 1),
+    (descent_names, (THREE, (None, None, None)), 1),
+    (descent_played, (THREE, (None, None, None), plain_namer, plain_table), 1),
+    (descent_faulty, (THREE, plain_namer, plain_table), 1),
+    (descent_foe, (THREE, plain_namer, plain_table), 1),
+    (is_descent_foe, (THREE, plain_namer, plain_table, None), 1),
 ]
 
 

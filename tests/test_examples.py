@@ -9,6 +9,7 @@ from putbetween.naming import names, standing
 from putbetween.plans import plan_of
 from putbetween.playing import plain_namer, plain_table, played
 from putbetween.ranks import chain_at, rank
+from putbetween.rooms import room_told
 from putbetween.words import words
 
 THREE = ((), (0,), (0, 1))
@@ -39,6 +40,9 @@ class Examples(unittest.TestCase):
     def test_e07(self):
         told = played(THREE, (0, 0, 1), plain_namer, plain_table)
         self.assertEqual(told, ("done", ("z", "y", "yx"), (1, 2, 0)))
+
+    def test_e09(self):
+        self.assertEqual(room_told(((0, 0), (1, 1)), ((0, 0),)), ("in", 1))
 
     def test_e10(self):
         self.assertEqual(weighed(THREE, 2), 13)

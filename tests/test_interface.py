@@ -26,6 +26,13 @@ FUNCTIONS = {
         "played": 4, "faulty": 3, "plain_namer": 4, "rank_namer": 4, "plain_table": 2, "rank_table": 2,
     },
     "foes": {"foe": 3, "is_foe": 4},
+    "books": {"book_fault": 3, "is_right_book": 3, "plain_book": 1},
+    "stocks": {"stocks": 2, "fewest_hands": 1, "is_fewest": 2},
+    "rooms": {"many_room_runs": 2, "document": 3, "room_names": 3, "room_told": 2},
+    "descents": {
+        "many_descents": 1, "descent_names": 2, "descent_played": 4, "descent_foe": 3, "is_descent_foe": 4,
+        "descent_faulty": 3,
+    },
 }
 
 FIELDS = {
