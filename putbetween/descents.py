@@ -3,10 +3,11 @@
 from putbetween.chains import chains
 from putbetween.errors import NoRun
 from putbetween.kinds import is_integer
+from putbetween.marked import first_marked, play_marked, tells_flag
 from putbetween.plans import need_plan
 from putbetween.ranks import all_chains
 from putbetween.runs import many_runs
-from putbetween.strangers import first_faulty, is_answer, name_fault, need_few_names, need_few_runs, remembering
+from putbetween.strangers import is_answer, need_few_names, need_few_runs, remembering
 
 
 def many_descents(plan):
@@ -37,10 +38,7 @@ def descent_faulty(plan, namer, table):
     def choices(run):
         return [None] + list(plan[len(run)])
 
-    def put(run, names):
-        return put_in(plan, run, names, namer, table)
-
-    return first_faulty(len(plan), choices, put, (), ())
+    return first_marked(plan, choices, namer, table, is_right)
 
 
 def descent_foe(plan, namer, table):
@@ -85,32 +83,14 @@ def are_descents(plan, thing):
 
 def play(plan, run, namer, table):
     """What descent_played tells of what is known to be a descent run of a plan."""
-    names = ()
-    for _ in plan:
-        fault, names = put_in(plan, run, names, namer, table)
-        if fault is not None:
-            return fault
-    return ("done", names)
+    return play_marked(plan, run, namer, table, is_right)
 
 
-def put_in(plan, run, names, namer, table):
-    """The fault behind the next item, or None; and the names then."""
-    item = len(names)
-    view = tuple([(seen, run[seen], names[seen]) for seen in plan[item]])
-    name = namer(plan, item, view, run[item])
-    fault = name_fault(names, name)
-    if fault is not None:
-        return fault, names
-    for other, earlier in enumerate(names):
-        if not tells(table, name, earlier, descends(run, item, other)) or not tells(table, earlier, name, False):
-            return ("wrong", other, item), names
-    return None, names + (name,)
-
-
-def tells(table, one, other, flag):
-    """Whether the table tells just this flag."""
-    told = table(one, other)
-    return told is True if flag else told is False
+def is_right(table, run, names, item, other):
+    """Whether the table tells just which of an item and an earlier one descends from the other one."""
+    if not tells_flag(table, names[item], names[other], descends(run, item, other)):
+        return False
+    return tells_flag(table, names[other], names[item], False)
 
 
 def descends(run, item, other):

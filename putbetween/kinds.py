@@ -1,5 +1,7 @@
 """What kind of thing a caller has passed: each question may be asked of any object."""
 
+MOST_LETTERS = 8
+
 
 def is_integer(thing):
     """Whether a thing is an integer; True and False are none."""
@@ -23,6 +25,25 @@ def is_order(many, thing):
     if not all([is_number(0, many - 1, part) for part in thing]):
         return False
     return len(set(thing)) == many
+
+
+def is_rising(many, thing):
+    """Whether a thing is a tuple of integers from 0 on below so many, each greater than the one ahead."""
+    if not isinstance(thing, tuple):
+        return False
+    least = 0
+    for part in thing:
+        if not is_number(least, many - 1, part):
+            return False
+        least = part + 1
+    return True
+
+
+def is_word(thing):
+    """Whether a thing is a string of 1 to 8 letters from a to z."""
+    if not isinstance(thing, str) or not 1 <= len(thing) <= MOST_LETTERS:
+        return False
+    return all(["a" <= sign <= "z" for sign in thing])
 
 
 def is_name(thing):

@@ -1,7 +1,7 @@
 """Plans: what the hand of each item has seen when the item is put in."""
 
 from putbetween.errors import NoItem, NoItems, NoNumber, NoPlan, NoSights, TooLarge
-from putbetween.kinds import is_list_or_tuple, is_number
+from putbetween.kinds import is_list_or_tuple, is_number, is_rising
 
 MOST_ITEMS = 40
 MOST_LISTED = 5
@@ -131,14 +131,7 @@ def part(plan, items):
 
 def is_part(plan, thing):
     """Whether a thing is an ascending tuple of unlike items of a plan."""
-    if not isinstance(thing, tuple):
-        return False
-    least = 0
-    for item in thing:
-        if not is_number(least, len(plan) - 1, item):
-            return False
-        least = item + 1
-    return True
+    return is_rising(len(plan), thing)
 
 
 def with_sight(plan, item, seen):

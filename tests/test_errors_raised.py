@@ -10,6 +10,7 @@ from putbetween.descents import (
 from putbetween.errors import NoItem, NoItems, NoNumber, NoPlan, NoSights, TooLarge
 from putbetween.foes import foe, is_foe
 from putbetween.likeness import is_sameness, sameness
+from putbetween.lots import is_lot_foe, lot_faulty, lot_foe, lot_names, lot_played, lots_needed, many_lots
 from putbetween.naming import names, run_with, standing, view
 from putbetween.plans import all_plans, behind, beside, part, plan_of, repeated, turned, with_sight
 from putbetween.playing import faulty, plain_namer, plain_table, played, rank_namer
@@ -17,6 +18,8 @@ from putbetween.ranks import ahead, all_chains, chain_at, longest, rank
 from putbetween.rooms import document, many_room_runs, room_names
 from putbetween.runs import many_runs, number_of, run_at, run_of
 from putbetween.stocks import fewest_hands, is_fewest, stocks
+from putbetween.ties import many_tie_names, tie_names, tie_played, tie_standing
+from putbetween.webs import is_web_foe, many_webs, web_faulty, web_foe, web_names, web_played, webs_needed
 from putbetween.words import chain_of, word, words
 from tests import plainly
 from tests.wrong import assert_error, things, with_things
@@ -80,6 +83,24 @@ WITH_PLANS = [
     (descent_faulty, (THREE, plain_namer, plain_table), 1),
     (descent_foe, (THREE, plain_namer, plain_table), 1),
     (is_descent_foe, (THREE, plain_namer, plain_table, None), 1),
+    (many_lots, (THREE,), 1),
+    (lots_needed, (THREE,), 1),
+    (lot_names, (THREE, (0, 1, 2)), 1),
+    (lot_played, (THREE, (0, 1, 2), plain_namer, plain_table), 1),
+    (lot_faulty, (THREE, plain_namer, plain_table), 1),
+    (lot_foe, (THREE, plain_namer, plain_table), 1),
+    (is_lot_foe, (THREE, plain_namer, plain_table, None), 1),
+    (webs_needed, (THREE, 2), 1),
+    (many_webs, (THREE, 2), 1),
+    (web_names, (THREE, 2, ((), (0,), (0, 0))), 1),
+    (web_played, (THREE, 2, ((), (0,), (0, 0)), plain_namer, plain_table), 1),
+    (web_faulty, (THREE, 2, plain_namer, plain_table), 1),
+    (web_foe, (THREE, 2, plain_namer, plain_table), 1),
+    (is_web_foe, (THREE, 2, plain_namer, plain_table, None), 1),
+    (many_tie_names, (THREE,), 1),
+    (tie_names, (THREE, (("gap", 0),) * 3), 1),
+    (tie_standing, (THREE, (("gap", 0),) * 3), 1),
+    (tie_played, (THREE, (("gap", 0),) * 3, plain_namer, plain_table), 1),
 ]
 
 

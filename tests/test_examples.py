@@ -4,12 +4,15 @@ import unittest
 
 from putbetween.chains import chains, ending, weighed
 from putbetween.days import meet_costs
+from putbetween.growth import needed
 from putbetween.heaps import least_plan
+from putbetween.lots import lots_needed
 from putbetween.naming import names, standing
 from putbetween.plans import plan_of
 from putbetween.playing import plain_namer, plain_table, played
 from putbetween.ranks import chain_at, rank
 from putbetween.rooms import room_told
+from putbetween.webs import webs_needed
 from putbetween.words import words
 
 THREE = ((), (0,), (0, 1))
@@ -41,11 +44,18 @@ class Examples(unittest.TestCase):
         told = played(THREE, (0, 0, 1), plain_namer, plain_table)
         self.assertEqual(told, ("done", ("z", "y", "yx"), (1, 2, 0)))
 
+    def test_e08(self):
+        self.assertEqual(lots_needed(THREE), 6)
+        self.assertEqual(webs_needed(THREE, 2), 7)
+
     def test_e09(self):
         self.assertEqual(room_told(((0, 0), (1, 1)), ((0, 0),)), ("in", 1))
 
     def test_e10(self):
         self.assertEqual(weighed(THREE, 2), 13)
+
+    def test_e11(self):
+        self.assertEqual(needed({"a": ("a", "a")}, "a", 3), 7)
 
     def test_e13(self):
         self.assertEqual(least_plan(["z", "zy", "x"]), ((), (0,), ()))

@@ -33,6 +33,14 @@ FUNCTIONS = {
         "many_descents": 1, "descent_names": 2, "descent_played": 4, "descent_foe": 3, "is_descent_foe": 4,
         "descent_faulty": 3,
     },
+    "lots": {
+        "many_lots": 1, "lots_needed": 1, "lot_names": 2, "lot_played": 4, "lot_foe": 3, "is_lot_foe": 4, "lot_faulty": 3,
+    },
+    "webs": {
+        "webs_needed": 2, "many_webs": 2, "web_names": 3, "web_played": 5, "web_foe": 4, "is_web_foe": 5, "web_faulty": 4,
+    },
+    "growth": {"needed": 3, "gaps": 3, "speed": 2, "is_double": 3},
+    "ties": {"tie_names": 2, "tie_standing": 2, "tie_played": 4, "many_tie_names": 1, "tie_told": 2},
 }
 
 FIELDS = {
