@@ -11,6 +11,11 @@ def names(plan, run):
     """The plain names of the items: chains."""
     need_plan(plan)
     need_run(plan, run)
+    return chains_at(plan, run)
+
+
+def chains_at(plan, run):
+    """The plain names of what is known to be a run of a plan."""
     found = []
     for item, left in enumerate(neighbours(plan, run)):
         found.append((item,) if left is None else found[left] + (item,))
@@ -21,6 +26,11 @@ def standing(plan, run):
     """All items in the order of their names."""
     need_plan(plan)
     need_run(plan, run)
+    return order_at(plan, run)
+
+
+def order_at(plan, run):
+    """The items in the order of their names, on what is known to be a run of a plan."""
     return tuple(placed(neighbours(plan, run)))
 
 

@@ -62,30 +62,21 @@ def web_foe(plan, kinds, namer, table):
     """A web run with its fault, or as many runs and items, with names all unlike, as there are names needed."""
     need_few_names(webs_needed(plan, kinds))
     asked = remembering(namer)
-    known = {}
     rows = []
     for item, seen in enumerate(plan):
         for chosen in all_kinds(len(seen), kinds):
-            liking = dict(zip(seen, chosen))
-            run = liked(plan, liking)
+            run = liked(plan, dict(zip(seen, chosen)))
             told = play(plan, run, asked, table)
             if told[0] != "done":
                 return ("fault", run, told)
-            name = told[1][item]
-            if name in known:
-                both = dict(known[name])
-                both.update(liking)
-                run = liked(plan, both)
-                return ("fault", run, play(plan, run, asked, table))
-            known[name] = liking
             rows.append((run, item))
     return ("names", rows)
 
 
-# What web_foe tells rests on runs on which each item is liked in one way by all that have seen it. There
-# the name of an item hangs on how those that it has seen are liked. Of two like names, where an item is
-# liked otherwise for the one than for the other, and all that it has seen alike: this item has one name
-# on both runs, and the table is wrong on one of them. If there is none, one run has both names.
+# On these runs each item is liked in one way by all that have seen it, so that a name hangs on how those
+# that its item has seen are liked. Of two rows with one name take the least item that just one of the two
+# items has seen, or that they like otherwise. If it is one of these two, or there is none, one run has the
+# name twice. Otherwise it has one name itself on both runs, and the table is wrong on one of them.
 
 
 def liked(plan, liking):

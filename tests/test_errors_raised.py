@@ -17,7 +17,9 @@ from putbetween.playing import faulty, plain_namer, plain_table, played, rank_na
 from putbetween.ranks import ahead, all_chains, chain_at, longest, rank
 from putbetween.rooms import document, many_room_runs, room_names
 from putbetween.runs import many_runs, number_of, run_at, run_of
+from putbetween.shapes import bar, plan_shape
 from putbetween.stocks import fewest_hands, is_fewest, stocks
+from putbetween.texts import plan_text
 from putbetween.ties import many_tie_names, tie_names, tie_played, tie_standing
 from putbetween.webs import is_web_foe, many_webs, web_faulty, web_foe, web_names, web_played, webs_needed
 from putbetween.words import chain_of, word, words
@@ -101,6 +103,9 @@ WITH_PLANS = [
     (tie_names, (THREE, (("gap", 0),) * 3), 1),
     (tie_standing, (THREE, (("gap", 0),) * 3), 1),
     (tie_played, (THREE, (("gap", 0),) * 3, plain_namer, plain_table), 1),
+    (plan_text, (THREE,), 1),
+    (plan_shape, (THREE,), 1),
+    (bar, (THREE,), 1),
 ]
 
 

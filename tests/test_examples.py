@@ -12,6 +12,7 @@ from putbetween.plans import plan_of
 from putbetween.playing import plain_namer, plain_table, played
 from putbetween.ranks import chain_at, rank
 from putbetween.rooms import room_told
+from putbetween.shapes import read_shape
 from putbetween.webs import webs_needed
 from putbetween.words import words
 
@@ -56,6 +57,9 @@ class Examples(unittest.TestCase):
 
     def test_e11(self):
         self.assertEqual(needed({"a": ("a", "a")}, "a", 3), 7)
+
+    def test_e12(self):
+        self.assertEqual(read_shape(".>(.|.)"), ((), (0,), (0,)))
 
     def test_e13(self):
         self.assertEqual(least_plan(["z", "zy", "x"]), ((), (0,), ()))

@@ -41,6 +41,19 @@ FUNCTIONS = {
     },
     "growth": {"needed": 3, "gaps": 3, "speed": 2, "is_double": 3},
     "ties": {"tie_names": 2, "tie_standing": 2, "tie_played": 4, "many_tie_names": 1, "tie_told": 2},
+    "texts": {"plan_text": 1, "day_text": 1, "read_plan": 1, "read_day": 1},
+    "shapes": {"read_shape": 1, "plan_shape": 1, "bar": 1},
+}
+
+# For each class what its methods are given, the object aside.
+CLASSES = {
+    "papers": {
+        "Paper": {
+            "__init__": 1, "put": 2, "meet": 2, "back": 0, "changes": 0, "plan": 0, "run": 0, "hands": 0, "names": 0,
+            "standing": 0, "view": 1, "copy": 0, "trying": 1,
+        },
+    },
+    "desks": {"Desk": {"__init__": 0, "tell": 1, "undoable": 0}},
 }
 
 FIELDS = {
@@ -61,6 +74,22 @@ class Functions(unittest.TestCase):
                 self.assertEqual(function.__module__, "putbetween." + module, name)
                 self.assertEqual(function.__code__.co_argcount, arguments, name)
                 self.assertIsNone(function.__defaults__, name)
+
+
+class Classes(unittest.TestCase):
+    def test_each_is_defined_where_it_is_listed(self):
+        for module, classes in CLASSES.items():
+            for name, methods in classes.items():
+                found = getattr(importlib.import_module("putbetween." + module), name)
+                self.assertEqual(found.__module__, "putbetween." + module, name)
+                for method, arguments in methods.items():
+                    function = vars(found)[method]
+                    self.assertEqual(function.__code__.co_argcount, arguments + 1, (name, method))
+                    self.assertIsNone(function.__defaults__, (name, method))
+
+    def test_all_modules_are_listed(self):
+        listed = {*FUNCTIONS, *CLASSES, "errors"}
+        self.assertEqual(len(listed), 24)
 
 
 class Errors(unittest.TestCase):

@@ -1,6 +1,8 @@
 """Things of every kind that callers may pass, and how the errors that they meet are held."""
 
 from putbetween import errors
+from putbetween.desks import Desk
+from putbetween.papers import Paper
 
 
 def nested(kind, depth):
@@ -16,6 +18,41 @@ def nested_dicts(depth):
     for _ in range(depth - 1):
         thing = {0: thing}
     return thing
+
+
+def paper():
+    """A paper on which something stands."""
+    found = Paper(3)
+    found.put(0, 0)
+    found.meet(0, 2)
+    found.put(2, 1)
+    return found
+
+
+def desk():
+    """A desk at which something is kept."""
+    found = Desk()
+    found.tell("plan a 0:/1: 0/")
+    found.tell("drop a")
+    found.tell("shape b .>.")
+    return found
+
+
+def insides(thing):
+    """What is in the papers and the desks that are in a thing."""
+    if type(thing) in (Paper, Desk):
+        return [repr(vars(thing))]
+    if type(thing) is dict:
+        return insides(list(thing.values()))
+    # The long ones of these things have none in them.
+    if type(thing) in (list, tuple) and len(thing) < 100:
+        return [told for part in thing if type(part) in (list, tuple, dict, Paper, Desk) for told in insides(part)]
+    return []
+
+
+def shown(thing):
+    """All that can be seen of a thing, and of what is in it."""
+    return repr(thing), insides(thing)
 
 
 def things():
@@ -37,6 +74,7 @@ def things():
         range(0), range(3), slice(0, 1), iter([0]), iter((0,)), reversed([0]), enumerate([]), {}.keys(),
         {0: 0}.items(), int, tuple, object(), len, [].append, things, lambda: 0, ValueError("a"),
         errors.NoPlan(), errors.TooLarge(40), errors.NotKept("a"), errors.NoPlan, errors.BetweenError(),
+        Paper(1), paper(), Desk(), desk(), Paper, Desk, paper().put, [paper()], (desk(),), ((), paper()), {0: Desk()},
     ]
 
 
@@ -52,8 +90,8 @@ def with_things(good):
 
 def assert_error(case, error, function, *arguments):
     """Hold that the call raises just this error, and that what is passed stays what it is."""
-    before = repr(arguments)
-    told = f"{function.__name__}{before:.200}"
+    before = shown(arguments)
+    told = f"{function.__name__}{repr(arguments):.200}"
     with case.assertRaises(errors.BetweenError, msg=told) as caught:
         function(*arguments)
     raised = caught.exception
@@ -63,4 +101,4 @@ def assert_error(case, error, function, *arguments):
         case.assertIs(type(value), type(getattr(error, name)), told)
     case.assertEqual(type(raised).__bases__, (errors.BetweenError,), told)
     case.assertEqual(errors.BetweenError.__bases__, (ValueError,), told)
-    case.assertEqual(repr(arguments), before, told)
+    case.assertEqual(shown(arguments), before, told)
