@@ -9,10 +9,10 @@ MOST_TIMES = 40
 def read_shape(text):
     """The plan of a shape."""
     need_shape(text)
-    # What is put together so far: what stands beside what is to come, what of this stands behind one another
-    # already, and how often the next part is repeated; and the same for each open bracket.
-    outer = []
+    # The plans of what stands ahead of the last `|` and behind it, and the number ahead of the next part;
+    # `outer` has what these were at each open bracket.
     whole, row, times = (), (), ""
+    outer = []
     for sign in text:
         if sign == "(":
             outer.append((whole, row, times))
@@ -48,7 +48,10 @@ def need_shape(text):
             raise BadShape(at)
         times = "" if closed or sign in ".(" else times + sign
         closed = sign in ".)"
-        depth += {"(": 1, ")": -1}.get(sign, 0)
+        if sign == "(":
+            depth += 1
+        if sign == ")":
+            depth -= 1
     if not closed or depth > 0:
         raise BadShape(len(text))
 
