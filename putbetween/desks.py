@@ -51,7 +51,7 @@ class Desk:
             return self._undo()
         if command in ("plan", "shape", "day"):
             return self._keep(words[1], read_kept(command, words[2]))
-        # None is kept any more under the name of a drop line.
+        # All other lines, drop lines too, are about a name that is kept.
         plan = self._plan(words[1])
         if command == "drop":
             return self._keep(words[1], None)
